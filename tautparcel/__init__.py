@@ -1,0 +1,1 @@
+"""Ribbons pulled taut round a box, for all places to begin."""
