@@ -1,0 +1,127 @@
+import importlib
+import inspect
+import unittest
+
+INTERFACE = {
+    "ratios": [
+        "is_whole(thing, low=None, high=None)", "is_ratio(thing)", "make_ratio(top, bottom=1)", "plus(one, other)",
+        "minus(one, other)", "times(one, other)", "over(one, other)", "negative(one)", "compare(one, other)",
+        "sum_of(ratios)", "least_of(ratios)", "greatest_of(ratios)", "floor_of(one)", "broken_of(one)",
+        "ratio_text(one)",
+    ],
+    "boxes": [
+        "check_face(face)", "check_corner(corner)", "face_axes(face)", "are_beside(face, other)", "faces_beside(face)",
+        "faces_of_corner(corner)", "all_edges()", "check_edge(edge)", "faces_of_edge(edge)",
+        "edge_between(face, beside)", "Box(sides)",
+    ],
+    "places": [
+        "check_place(box, place)", "faces_at(box, place)", "kind_of_place(box, place)", "corner_number(box, place)",
+        "edge_of_place(box, place)", "place_of_corner(box, corner)", "place_on(box, face, first, second)",
+        "framed(face, triple)",
+    ],
+    "slopes": [
+        "check_slope(slope, band=False)", "mirrored_slope(slope)", "check_direction(face, direction)",
+        "unframed(face, first, second)", "directions_on(face, slope)", "slope_of(face, direction)",
+        "left_of(face, direction)", "back_of(face, direction)", "outward_step(beside, direction)",
+        "over_edge(face, beside, direction)", "sideways(face, direction, place)",
+    ],
+    "along": [
+        "check_how(how)", "all_hows()", "keeps_sense(how)", "back_how(how)", "joined_how(how, further)",
+        "led_box(box, how)", "led_place(box, place, how)", "led_face(face, how)", "led_corner(corner, how)",
+        "led_direction(face, direction, how)", "led_slope(slope, how)", "led_row(row, how)", "scaled_box(box, size)",
+        "scaled_place(box, place, size)",
+    ],
+    "parceltext": [
+        "read_ratio(text)", "box_text(box)", "read_box(text)", "slope_text(slope)", "read_slope(text)",
+        "place_text(box, place)", "read_place(box, text)", "row_text(row)", "read_row(text)",
+        "entrance_text(box, place, face, direction)", "read_entrance(box, text)",
+    ],
+    "steps": [
+        "check_entrance(box, place, face, direction)", "pass_from(box, place, face, direction)", "back_pass(taken)",
+        "whole_pass(box, place, face, direction)", "next_start(box, taken)", "pass_after(box, taken)",
+        "pass_before(box, taken)", "pass_crossing(taken, met)", "crossing_lengths(taken, met)",
+        "Pass(face, direction, start, end, length)",
+    ],
+    "rays": [
+        "most_passes(box, slope)", "ray_of(box, place, face, direction, passes)",
+        "corner_ahead(box, place, face, direction)", "MeetsCorner(corner, length, passes)",
+    ],
+    "ribbons": [
+        "ribbon_of(box, place, face, direction)", "ribbon_begun(ribbon, index)", "back_ribbon(ribbon)",
+        "least_ribbon(ribbon)", "same_ribbon(ribbon, mate)", "length_square(ribbon)", "chords_on(ribbon, face)",
+        "ribbon_fault(box, passes)", "Ribbon(box, slope, passes, length)",
+    ],
+    "facerows": [
+        "check_facerow(row)", "begun_row(row, index)", "back_row(row)", "least_begun(row)", "least_row(row)",
+        "same_row(row, other)", "single_row(row)",
+    ],
+    "unfolding": [
+        "unfold_row(row)", "gate_corners(row)", "form_at(box, form)", "gates_at(box, row)", "shift_at(box, row)",
+        "flat_place(box, row, index, place)", "solid_place(box, row, index, point)", "Unfolded(row, placings, gates)",
+    ],
+    "taut": [
+        "taut_row(box, row)", "slide_of(lane)", "entrances_in(lane, offset)", "boxes_of_row(row, most)",
+        "rows_through(box, most)", "Lane(box, faces, direction, low, length, breadth)", "NotTaut(what, first, second)",
+        "Slide(right, left)",
+    ],
+    "cornerways": [
+        "faces_round(corner)", "corner_direction(corner, face, slope)", "corner_way(box, corner, face, slope)",
+        "all_corner_ways(box, slope)", "back_way(way)", "way_places(way)", "shortest_ways(box, slope)",
+        "ways_from(box, corner, most)", "straight_between(box, corner, other, most)",
+        "CornerWay(box, slope, start, face, finish, last, length, faces)",
+    ],
+    "lanes": [
+        "sideways_range(box, face, direction)", "check_strip(box, strip)", "strip_after(box, strip)",
+        "strip_before(box, strip)", "strips_of(lane)", "settled_lane(lane)", "twin_of(lane)",
+        "lane_of_strip(box, strip)", "lanes_of(box, slope)", "Strip(face, direction, low, high)", "Split(corner)",
+        "Lanes(box, slope, lanes)",
+    ],
+}
+METHODS = {
+    ("boxes", "Box"): ["__init__", "__eq__", "skin_area", "corner_places"],
+    ("steps", "Pass"): ["__init__", "__eq__"],
+    ("rays", "MeetsCorner"): ["__init__", "__eq__"],
+    ("ribbons", "Ribbon"): ["__init__", "__eq__", "__len__", "__iter__"],
+    ("unfolding", "Unfolded"): ["__init__", "__eq__", "turn", "shift"],
+    ("taut", "Lane"): ["__init__", "__eq__"],
+    ("taut", "NotTaut"): ["__init__", "__eq__"],
+    ("taut", "Slide"): ["__init__", "__eq__"],
+    ("cornerways", "CornerWay"): ["__init__", "__eq__", "key", "back_key", "squared"],
+    ("lanes", "Strip"): ["__init__", "__eq__"],
+    ("lanes", "Split"): ["__init__", "__eq__"],
+    ("lanes", "Lanes"): ["__init__", "__eq__", "__len__", "__iter__", "number_of"],
+}
+GENERATORS = ["ray_of", "rows_through", "ways_from"]
+
+
+class Interface(unittest.TestCase):
+    def test_names_and_arguments(self):
+        for module_name, lines in INTERFACE.items():
+            module = importlib.import_module("tautparcel." + module_name)
+            for line in lines:
+                name = line.partition("(")[0]
+                thing = getattr(module, name)
+                self.assertEqual(name + str(inspect.signature(thing)), line)
+                self.assertEqual(thing.__module__, module.__name__, name)
+                self.assertEqual(inspect.isgeneratorfunction(thing), name in GENERATORS, name)
+
+    def test_methods_stand_in_their_classes(self):
+        for (module_name, name), methods in METHODS.items():
+            thing = getattr(importlib.import_module("tautparcel." + module_name), name)
+            for method in methods:
+                self.assertIn(method, vars(thing), (name, method))
+
+    def test_attributes_bear_the_names_of_the_arguments(self):
+        for module_name, lines in INTERFACE.items():
+            module = importlib.import_module("tautparcel." + module_name)
+            for line in lines:
+                name, _, rest = line[:-1].partition("(")
+                if name[0].isupper() and name not in ("Box", "Lane", "Ribbon"):
+                    words = rest.split(", ")
+                    values = [object() for _ in words]
+                    made = getattr(module, name)(*values)
+                    self.assertEqual(list(vars(made).items()), list(zip(words, values)))
+
+
+if __name__ == "__main__":
+    unittest.main()
