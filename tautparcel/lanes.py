@@ -154,13 +154,18 @@ def lane_of_strip(box, strip):
 
 def lane_through(box, face, direction, low):
     """Returns the lane that holds a unit strip, begun there; raises TooMany."""
-    side = 2 * low + 1
-    course = course_of(box, face, direction, side, 2, MOST_FACES)
+    course = course_of(box, face, direction, 2 * low + 1, 2, MOST_FACES)
     if not course.closed:
         raise TooMany(MOST_FACES)
-    fall, rise = slack_of(course, 2)
+    return lane_along(box, course, 2)
+
+
+def lane_along(box, course, scale):
+    """Returns the lane in which a closed course lies, begun where the course begins."""
+    direction, side = course.steps[0][1:3]
+    fall, rise = slack_of(course, scale)
     faces = tuple([step[0] for step in course.steps])
-    return Lane(box, faces, direction, (side - fall) // 2, closed_length(course), (fall + rise) // 2)
+    return Lane(box, faces, direction, (side - fall) // scale, closed_length(course), (fall + rise) // scale)
 
 
 def lanes_of(box, slope):

@@ -4,9 +4,9 @@ from tautparcel.boxes import check_face
 from tautparcel.courses import closed_length, starts_of
 from tautparcel.errors import BadIndex, ParcelError
 from tautparcel.places import compare_places, faces_holding, numbers_over
-from tautparcel.ratios import common_bottom, is_ratio, is_whole, minus, over
+from tautparcel.ratios import ZERO, common_bottom, compare, is_ratio, is_whole, minus, over, plus
 from tautparcel.rays import check_passes, corner_of_course, course_from
-from tautparcel.slopes import slope_on
+from tautparcel.slopes import sideways, slope_on
 from tautparcel.steps import Pass, back_pass, checked_start, next_start, pass_from
 
 
@@ -107,6 +107,36 @@ def length_square(ribbon):
     """Returns the square of the ribbon's true length."""
     first, second = ribbon.slope
     return ribbon.length * ribbon.length * (first * first + second * second)
+
+
+def start_moments(ribbon):
+    """Returns the lengths gone where the passes of a ribbon begin, since the first one began."""
+    moment = ZERO
+    moments = []
+    for taken in ribbon.passes:
+        moments.append(moment)
+        moment = plus(moment, taken.length)
+    return moments
+
+
+def moments_at(ribbon, place):
+    """Returns the moments at which a ribbon is at a place, ascending, and checks nothing."""
+    faces = faces_holding(ribbon.box, place)
+    found = []
+    for taken, moment in zip(ribbon.passes, start_moments(ribbon)):
+        if taken.face in faces:
+            gone = gone_at(taken, place)
+            if gone is not None:
+                found.append(plus(moment, gone))
+    return tuple(found)
+
+
+def gone_at(taken, place):
+    """Returns the length that a pass has gone at a place of its face, or None; its end does not count."""
+    if sideways(taken.face, taken.direction, place) != sideways(taken.face, taken.direction, taken.start):
+        return None
+    gone = length_between(taken.direction, taken.start, place)
+    return gone if compare(gone, ZERO) >= 0 and compare(gone, taken.length) < 0 else None
 
 
 def chords_on(ribbon, face):

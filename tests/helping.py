@@ -1,7 +1,7 @@
 """What the tests share: checks of errors, boxes and slopes, and a ray tracer of its own over Fractions."""
 
 from fractions import Fraction
-from math import gcd
+from math import gcd, isqrt
 
 from tautparcel.boxes import Box
 
@@ -111,3 +111,79 @@ def entrances(box, slope, bottom):
                     except BadStart:
                         pass
     return found
+
+
+def check_result(case, kind, words):
+    """Asserts that a class keeps the very things that it is given, checks nothing, and is equal by all of them."""
+    values = [[index] for index, _ in enumerate(words)]
+    made = kind(*values)
+    case.assertEqual(list(vars(made)), words)
+    for word, value in zip(words, values):
+        case.assertIs(getattr(made, word), value)
+    case.assertIs(made == kind(*values), True)
+    case.assertIs(made != kind(*values), False)
+    for index in range(len(words)):
+        other = kind(*values[:index], "other", *values[index + 1:])
+        case.assertIs(made == other, False)
+        case.assertIs(made != other, True)
+    for thing in (None, 5, "a", tuple(values), values, Box((1, 1, 1))):
+        case.assertIs(made == thing, False)
+        case.assertIs(made != thing, True)
+
+
+def chord_ends(passes):
+    """The passes as (face, start, end, moment of the start), by Fractions."""
+    found, moment = [], Fraction(0)
+    for taken in passes:
+        found.append((taken.face, point(taken.start), point(taken.end), moment))
+        moment += number(taken.length)
+    return found
+
+
+def chords_met(chord, other):
+    """The place where two chords of a face cross, by Fractions, or None; their ends count."""
+    if chord[0] != other[0]:
+        return None
+    first, second = AXES[chord[0]]
+    (x0, y0), (x1, y1) = [(end[first], end[second]) for end in chord[1:3]]
+    (u0, v0), (u1, v1) = [(end[first], end[second]) for end in other[1:3]]
+    turn = (x1 - x0) * (v1 - v0) - (y1 - y0) * (u1 - u0)
+    if turn == 0:
+        return None
+    gone = ((u0 - x0) * (v1 - v0) - (v0 - y0) * (u1 - u0)) / turn
+    other_gone = ((u0 - x0) * (y1 - y0) - (v0 - y0) * (x1 - x0)) / turn
+    if not 0 <= gone <= 1 or not 0 <= other_gone <= 1:
+        return None
+    return tuple(one + gone * (end - one) for one, end in zip(chord[1], chord[2]))
+
+
+def places_met(passes, others=None):
+    """All places where passes cross other passes, or one another, ascending, by Fractions."""
+    chords = chord_ends(passes)
+    if others is None:
+        couples = [(chords[one], chords[other]) for one in range(len(chords)) for other in range(one)]
+    else:
+        couples = [(chord, other) for chord in chords for other in chord_ends(others)]
+    found = {chords_met(chord, other) for chord, other in couples}
+    return sorted(found - {None})
+
+
+def moments_by_walking(ribbon, where):
+    """The moments at which a ribbon is at a place, by Fractions, found pass by pass."""
+    found = set()
+    for _, start, end, moment in chord_ends(ribbon.passes):
+        axis = [axis for axis in range(3) if start[axis] != end[axis]][0]
+        gone = (where[axis] - start[axis]) / (end[axis] - start[axis])
+        if 0 <= gone <= 1 and all(one + gone * (far - one) == at for one, far, at in zip(start, end, where)):
+            length = sum((far - one) ** 2 for one, far in zip(start, end))
+            first, second = ribbon.slope
+            # The pass's length t has t * t times the square of the slope as its true square.
+            whole = length / (first ** 2 + second ** 2)
+            found.add((moment + gone * root(whole)) % ribbon.length)
+    return sorted(found)
+
+
+def root(square):
+    value = Fraction(isqrt(square.numerator), isqrt(square.denominator))
+    assert value * value == square
+    return value

@@ -76,6 +76,35 @@ INTERFACE = {
         "lane_of_strip(box, strip)", "lanes_of(box, slope)", "Strip(face, direction, low, high)", "Split(corner)",
         "Lanes(box, slope, lanes)",
     ],
+    "lanesums": [
+        "area_of(lane)", "whole_area(lanes)", "whole_length(lanes)", "share_of(lane, face)", "shares_of(lane)",
+        "strips_on(lanes, face, direction)", "rows_fault(box, slope, rows)", "longest_lane(lanes)",
+        "broadest_lane(lanes)",
+    ],
+    "wherelane": [
+        "lane_at(box, place, face, direction)", "lanes_through(lanes, face, place)", "ribbon_in(lane, offset)",
+        "middle_ribbon(lane)", "lane_of(ribbon)", "offset_of(ribbon)", "aside(ribbon, other)",
+        "Where(lane, strip, offset)", "OnBorder(corner, face, gone)",
+    ],
+    "borders": [
+        "way_after(way, side)", "way_before(way, side)", "border_of(way, side)", "all_borders(box, slope, side)",
+        "twin_border(border)", "border_fault(box, slope, side, keys)", "Border(side, ways, length)",
+    ],
+    "webs": [
+        "lanes_beside(lanes, way)", "borders_of(lanes, number)", "web_of(lanes)", "web_lots(lanes)",
+        "Link(left, right, way)",
+    ],
+    "crossings": [
+        "crossings_of(ribbon)", "crossings_between(ribbon, mate)", "check_lot(ribbons)", "strands_at(ribbons, place)",
+        "Crossing(place, first, second)",
+    ],
+    "shades": [
+        "shades_of_corners(ribbon)", "sides_of(ribbon)", "loop_at(ribbon, place)",
+        "Loop(place, first, second, corners, others)",
+    ],
+    "pieces": [
+        "pieces_of(ribbons)", "piece_at(ribbons, place)", "Piece(parts, corners, bends, holes, area)",
+    ],
 }
 METHODS = {
     ("boxes", "Box"): ["__init__", "__eq__", "skin_area", "corner_places"],
@@ -90,6 +119,13 @@ METHODS = {
     ("lanes", "Strip"): ["__init__", "__eq__"],
     ("lanes", "Split"): ["__init__", "__eq__"],
     ("lanes", "Lanes"): ["__init__", "__eq__", "__len__", "__iter__", "number_of"],
+    ("wherelane", "Where"): ["__init__", "__eq__"],
+    ("wherelane", "OnBorder"): ["__init__", "__eq__"],
+    ("borders", "Border"): ["__init__", "__eq__"],
+    ("webs", "Link"): ["__init__", "__eq__"],
+    ("crossings", "Crossing"): ["__init__", "__eq__"],
+    ("shades", "Loop"): ["__init__", "__eq__"],
+    ("pieces", "Piece"): ["__init__", "__eq__"],
 }
 GENERATORS = ["ray_of", "rows_through", "ways_from"]
 
