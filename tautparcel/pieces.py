@@ -226,7 +226,12 @@ def home_of(cut, place):
         if moments_at(ribbon, fixed):
             raise OnRibbon(place, number)
     face = faces_holding(cut.box, fixed)[0]
-    return cut.homes[(face, *lines_below(cut.grids[face], fixed))]
+    return home_of_part(cut, face, lines_below(cut.grids[face], fixed))
+
+
+def home_of_part(cut, face, below):
+    """Returns the number of the piece of the part of a face with so many lines below it along both directions."""
+    return cut.homes[(face, below[0], below[1])]
 
 
 def piece_at(ribbons, place):

@@ -105,6 +105,38 @@ INTERFACE = {
     "pieces": [
         "pieces_of(ribbons)", "piece_at(ribbons, place)", "Piece(parts, corners, bends, holes, area)",
     ],
+    "arcs": [
+        "arcs_of(ribbons)", "shades_of_pieces(ribbons)", "way_apart(ribbons, place, other)",
+        "Arc(number, moment, length, left, right)",
+    ],
+    "tables": [
+        "cross_table(box, slope)", "measure_of(table, index)", "table_sum(table)", "crossings_told(table, lot)",
+        "pieces_told(table, lot)", "CrossTable(box, slope, lanes, rows)",
+    ],
+    "farplaces": [
+        "check_length(length)", "place_after(ribbon, length)", "nth_pass(ribbon, number)",
+        "passes_on(ribbon, face, length)", "when_at(ribbon, place)", "times_at(ribbon, place, length)",
+        "FarPlace(place, index, rounds)",
+    ],
+    "meetings": [
+        "common_time(beat, mate)", "walk_at(walker, time)", "meet_when(walker, mate)", "Walk(ribbon, start, pace)",
+        "Meeting(time, place)",
+    ],
+    "counts": [
+        "face_counts(row)", "edge_counts(row)", "length_by_counts(box, slope, row)", "breadths_by_face(lanes)",
+        "breadths_by_edge(lanes)", "least_length(box, slope)", "shortest_square(box)",
+    ],
+    "levels": [
+        "level_moments(ribbon, axis, level)", "band_ribbon(box, axis, level)", "Crossed(moment, place, grows)",
+    ],
+    "shortribbons": [
+        "slopes_to(steep)", "short_lanes(box, most, steep)", "shortest_lanes(box, steep)",
+        "broadest_lanes(box, steep)", "Short(square, slope, lane)", "Broadest(square, lanes)",
+    ],
+    "through": [
+        "ways_through(box, place, slope)", "ribbons_through(box, place, slope)",
+        "shortest_through(box, place, steep)", "Through(ribbon, moments)",
+    ],
 }
 METHODS = {
     ("boxes", "Box"): ["__init__", "__eq__", "skin_area", "corner_places"],
@@ -126,6 +158,15 @@ METHODS = {
     ("crossings", "Crossing"): ["__init__", "__eq__"],
     ("shades", "Loop"): ["__init__", "__eq__"],
     ("pieces", "Piece"): ["__init__", "__eq__"],
+    ("arcs", "Arc"): ["__init__", "__eq__"],
+    ("tables", "CrossTable"): ["__init__", "__eq__"],
+    ("farplaces", "FarPlace"): ["__init__", "__eq__"],
+    ("meetings", "Walk"): ["__init__", "__eq__"],
+    ("meetings", "Meeting"): ["__init__", "__eq__"],
+    ("levels", "Crossed"): ["__init__", "__eq__"],
+    ("shortribbons", "Short"): ["__init__", "__eq__"],
+    ("shortribbons", "Broadest"): ["__init__", "__eq__"],
+    ("through", "Through"): ["__init__", "__eq__"],
 }
 GENERATORS = ["ray_of", "rows_through", "ways_from"]
 
@@ -152,7 +193,7 @@ class Interface(unittest.TestCase):
             module = importlib.import_module("tautparcel." + module_name)
             for line in lines:
                 name, _, rest = line[:-1].partition("(")
-                if name[0].isupper() and name not in ("Box", "Lane", "Ribbon"):
+                if name[0].isupper() and name not in ("Box", "Lane", "Ribbon", "Walk"):
                     words = rest.split(", ")
                     values = [object() for _ in words]
                     made = getattr(module, name)(*values)

@@ -109,7 +109,7 @@ class Shares(unittest.TestCase):
 
 class StripsOn(unittest.TestCase):
     def test_all_strips(self):
-        for lanes in some_lanes()[::3]:
+        for lanes in some_lanes()[::7]:
             for held in (lanes, by_hand(lanes)):
                 for face in range(6):
                     for direction in directions_on(face, lanes.slope):

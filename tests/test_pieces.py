@@ -199,7 +199,7 @@ class Together(unittest.TestCase):
     def test_bends(self):
         """Of the four right angles at each crossing, each one in the piece just beside the place."""
         edges = 0
-        for lot in some_lots()[::3]:
+        for lot in some_lots()[::5]:
             sides, slope = lot[0].box.sides, lot[0].slope
             drawn, pieces = Drawn(lot), pieces_of(lot)
             home = {part: index for index, piece in enumerate(pieces) for part in piece.parts}
@@ -227,7 +227,7 @@ class Together(unittest.TestCase):
             for piece, places in zip(pieces, told):
                 self.assertEqual(piece.bends, tuple(place(*where) for where in sorted(places)), slope)
             self.assertEqual(sum(len(piece.bends) for piece in pieces), 4 * len(crossing_places(lot)))
-        self.assertGreater(edges, 20)
+        self.assertGreater(edges, 10)
 
 
 class Sums(unittest.TestCase):
@@ -326,7 +326,7 @@ class PieceAt(unittest.TestCase):
 
     def test_by_parts(self):
         refusals = edges = 0
-        for lot in some_lots()[::5]:
+        for lot in some_lots()[::9]:
             drawn, pieces = Drawn(lot), pieces_of(lot)
             for where in self.places(lot):
                 on = [index for index, ribbon in enumerate(lot) if moments_by_walking(ribbon, where)]
@@ -339,8 +339,8 @@ class PieceAt(unittest.TestCase):
                 edges += len(faces_with(lot[0].box.sides, where)) == 2
                 for face in faces_with(lot[0].box.sides, where):
                     self.assertIn(drawn.part(face, where), pieces[found].parts)
-        self.assertGreater(refusals, 100)
-        self.assertGreater(edges, 300)
+        self.assertGreater(refusals, 50)
+        self.assertGreater(edges, 150)
 
     def test_corners(self):
         for lot in some_lots()[::7]:

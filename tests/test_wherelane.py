@@ -181,7 +181,7 @@ class LanesThrough(unittest.TestCase):
 
     def test_on_edges(self):
         """The strips that come in or go out there: those of the rays and of the rays gone backwards."""
-        for lanes in some_lanes()[::5]:
+        for lanes in some_lanes()[::11]:
             box, told = lanes.box, {}
             for where, face, direction in entrances(box, lanes.slope, 2):
                 faces = faces_with(box.sides, point(where))
