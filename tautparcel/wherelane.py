@@ -9,7 +9,7 @@ from tautparcel.places import check_place, faces_holding
 from tautparcel.ratios import common_bottom, compare, lowest, minus
 from tautparcel.rays import course_from
 from tautparcel.ribbons import Ribbon
-from tautparcel.slopes import STEEPEST, reversed_direction, sideways, slope_on, turned_over
+from tautparcel.slopes import STEEPEST, reversed_direction, sideways, slope_on
 from tautparcel.steps import checked_start
 from tautparcel.taut import check_offset, lane_passes
 
@@ -72,12 +72,8 @@ def lane_and_offset(box, course, place):
 
 def border_behind(box, place, face, direction):
     """Returns the OnBorder of a ray behind which a corner lies."""
-    back = reversed_direction(direction)
-    others = [other for other in faces_holding(box, place) if other != face]
-    if others:
-        back = turned_over(face, others[0], back)
-        face = others[0]
-    course = course_from(box, place, face, back)
+    # A place on an edge makes no difference: the line gone backwards leaves the face just there.
+    course = course_from(box, place, face, reversed_direction(direction))
     return OnBorder(course.corner, course.steps[-1][0], corner_length(box, course, place))
 
 

@@ -2,6 +2,7 @@ import unittest
 
 from helping import BOXES, NO_NUMBERS, SLOPES, as_lists, check_result, only_tuples, refused
 from test_lanes import some_lanes
+from tautparcel.along import all_hows, keeps_sense, led_box, led_corner, led_face, led_slope, scaled_box
 from tautparcel.boxes import Box, faces_of_corner
 from tautparcel.borders import (
     Border, all_borders, border_fault, border_of, twin_border, way_after, way_before,
@@ -124,6 +125,22 @@ class Borders(unittest.TestCase):
                     self.assertEqual(keys[0], min(keys))
                     self.assertIn(tuple(keys), all_begun([back_way(way).key for way in border.ways][::-1]))
                     self.assertEqual(twin_border(twin), border)
+
+    def test_led_along(self):
+        """A mirror exchanges the sides; on a scaled box the borders are as many times as long."""
+        for slope in ((2, 1), (2, 3)):
+            for how in all_hows()[::5]:
+                for side, other in (SIDES, SIDES[::-1]):
+                    led = all_borders(led_box(BOX, how), led_slope(slope, how), side if keeps_sense(how) else other)
+                    found = {frozenset(way.key for way in border.ways): border.length for border in led}
+                    told = {}
+                    for border in all_borders(BOX, slope, side):
+                        keys = [(led_corner(way.start, how), led_face(way.face, how)) for way in border.ways]
+                        told[frozenset(keys)] = border.length
+                    self.assertEqual(found, told)
+            for border, larger in zip(all_borders(BOX, slope, "left"), all_borders(scaled_box(BOX, 4), slope, "left")):
+                self.assertEqual(larger.length, 4 * border.length)
+                self.assertEqual([way.key for way in larger.ways], [way.key for way in border.ways])
 
     def test_it_is_a_result(self):
         check_result(self, Border, ["side", "ways", "length"])

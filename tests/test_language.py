@@ -180,6 +180,22 @@ class Language(unittest.TestCase):
                 else:
                     self.assertIsInstance(node, (ast.ImportFrom, ast.FunctionDef, ast.ClassDef))
 
+    def test_no_star_in_an_index(self):
+        for path, text, tree in trees():
+            for node in ast.walk(tree):
+                if isinstance(node, ast.Subscript):
+                    stars = [part for part in ast.walk(node.slice) if isinstance(part, ast.Starred)]
+                    self.assertEqual(stars, [], (path, node.lineno))
+
+    def test_no_attribute_has_the_name_of_a_property_or_a_method(self):
+        inside = [node for path, text, tree in trees() for top in tree.body if isinstance(top, ast.ClassDef)
+                  for node in top.body if isinstance(node, ast.FunctionDef)]
+        names = {node.name for node in inside}
+        for path, text, tree in trees():
+            for node in ast.walk(tree):
+                if isinstance(node, ast.Attribute) and isinstance(node.ctx, ast.Store):
+                    self.assertNotIn(node.attr, names, (path, node.lineno))
+
     def test_generators_are_iterated_at_once(self):
         for path, text, tree in trees():
             for node in ast.walk(tree):

@@ -263,6 +263,12 @@ class Meetings(unittest.TestCase):
         self.check(Walk(one, (1, 7), 1000), Walk(other, (2, 11), -999), Fraction(1, 9))
         self.check(Walk(one, (FAR, 1), 1000), Walk(one, (-FAR, 1), -1000), Fraction(1, 99))
 
+    def test_steep_ones(self):
+        steep = ribbon_of(CUBE, place("1/3", "1/2", 1), 5, (11, 10, 0))
+        band = ribbon_of(CUBE, place("1/3", "1/5", 1), 5, (1, 0, 0))
+        self.check(Walk(steep, (1, 7), 1), Walk(band, (2, 11), 3), 4)
+        self.check(Walk(steep, (1, 7), 1), Walk(ribbon_begun(back_ribbon(steep), 9), (2, 11), 3), 4)
+
     def test_very_late(self):
         """Lengths with unlike numbers: the first meeting comes after many rounds."""
         lanes = lanes_of(Box((1, 2, 3)), (1, 0))

@@ -4,10 +4,12 @@ from helping import NO_NUMBERS, check_result, only_tuples, refused
 from test_borders import all_begun, passed_corners
 from test_lanes import some_lanes
 from test_lanesums import by_hand
+from tautparcel.along import all_hows, keeps_sense, led_box, led_corner, led_face, led_row, led_slope
 from tautparcel.borders import Border, all_borders, border_of, twin_border, way_after
 from tautparcel.boxes import Box
 from tautparcel.cornerways import all_corner_ways, back_way, corner_direction, corner_way
 from tautparcel.errors import BadNumber
+from tautparcel.facerows import least_begun
 from tautparcel.lanes import Strip, lane_of_strip, lanes_of, twin_of
 from tautparcel.places import place_of_corner
 from tautparcel.slopes import sideways
@@ -130,6 +132,20 @@ class Web(unittest.TestCase):
             for link in web_of(lanes):
                 lengths[link.left] += corner_way(lanes.box, *link.way, lanes.slope).length
             self.assertEqual(lengths, [lane.length for lane in lanes])
+
+    def test_led_along(self):
+        """Left and right are exchanged by a mirror."""
+        lanes = lanes_of(BOX, (2, 3))
+        for how in all_hows()[::7]:
+            led = lanes_of(led_box(BOX, how), led_slope((2, 3), how))
+            links = {link.way: link for link in web_of(led)}
+            for link in web_of(lanes):
+                way = (led_corner(link.way[0], how), led_face(link.way[1], how))
+                left, right = [lanes.lanes[number] for number in (link.left, link.right)]
+                couple = [led.lanes[number] for number in (links[way].left, links[way].right)]
+                sides = [left, right] if keeps_sense(how) else [right, left]
+                told = [least_begun(led_row(lane.faces, how)) for lane in sides]
+                self.assertEqual([lane.faces for lane in couple], told)
 
     def test_it_is_a_result(self):
         check_result(self, Link, ["left", "right", "way"])
