@@ -95,14 +95,14 @@ def distances_from(beside, number):
     """Returns how many arcs the shortest ways from the piece with a number to each piece go over, as a dict."""
     distances = {number: 0}
     reached = [number]
-    while reached:
-        further = []
-        for here in reached:
-            for other in beside[here]:
-                if other not in distances:
-                    distances[other] = distances[here] + 1
-                    further.append(other)
-        reached = further
+    done = 0
+    while done < len(reached):
+        here = reached[done]
+        done += 1
+        for other in beside[here]:
+            if other not in distances:
+                distances[other] = distances[here] + 1
+                reached.append(other)
     return distances
 
 

@@ -26,6 +26,7 @@ BARRED_NAMES = (
     "attrgetter breakpoint builtins compile copyright credits delattr dir eval exec exit gc globals help id importlib"
     " license locals methodcaller os quit setattr super vars sys getattr hasattr"
 ).split()
+CHANGING = "append clear extend insert pop remove reverse setdefault update sort add discard".split()
 LET_DUNDERS = ["__init__", "__eq__", "__repr__", "__str__", "__len__", "__iter__", "__enter__", "__exit__", "__call__"]
 STATEMENTS = (
     ast.Assign, ast.AugAssign, ast.If, ast.While, ast.For, ast.Return, ast.Break, ast.Continue, ast.Pass, ast.Raise,
@@ -59,6 +60,58 @@ def bound_names(function):
         if isinstance(node, ast.Lambda):
             names += [argument.arg for argument in node.args.args]
     return names
+
+
+def root_of(node):
+    """The name behind fields, items and calls such as enumerate(..), or None."""
+    while True:
+        if isinstance(node, ast.Name):
+            return node.id
+        if isinstance(node, (ast.Attribute, ast.Subscript)):
+            node = node.value
+        else:
+            return None
+
+
+def walked_names(node):
+    """The names of what a loop goes over, also through enumerate, zip and the like, views and choices."""
+    if isinstance(node, ast.Name):
+        return [node.id]
+    if isinstance(node, ast.Call) and getattr(node.func, "id", "") in ("enumerate", "zip", "reversed", "iter"):
+        return [name for part in node.args for name in walked_names(part)]
+    if isinstance(node, ast.Call) and getattr(node.func, "attr", "") in ("items", "keys", "values"):
+        return walked_names(node.func.value)
+    if isinstance(node, ast.IfExp):
+        return walked_names(node.body) + walked_names(node.orelse)
+    if isinstance(node, ast.BoolOp):
+        return [name for part in node.values for name in walked_names(part)]
+    return []
+
+
+def names_alike(function):
+    """For each name of a function all names that may stand for the same thing, by plain assignments."""
+    lots = {}
+    for node in ast.walk(function):
+        if isinstance(node, ast.Assign) and isinstance(node.value, ast.Name):
+            for target in node.targets:
+                if isinstance(target, ast.Name):
+                    lot = lots.get(target.id, {target.id}) | lots.get(node.value.id, {node.value.id})
+                    for name in lot:
+                        lots[name] = lot
+    return lots
+
+
+def changed_names(nodes):
+    """The names of what is changed in some statements: by a method, an item or a field."""
+    found = []
+    for node in [inner for top in nodes for inner in ast.walk(top)]:
+        if isinstance(node, ast.Call) and getattr(node.func, "attr", "") in CHANGING:
+            found.append(root_of(node.func.value) if isinstance(node.func.value, ast.Name) else None)
+        if isinstance(node, ast.Subscript) and not isinstance(node.ctx, ast.Load):
+            found.append(root_of(node.value) if isinstance(node.value, ast.Name) else None)
+        if isinstance(node, ast.AugAssign) and isinstance(node.target, ast.Name):
+            found.append(node.target.id)
+    return found
 
 
 def functions_of(tree):
@@ -154,10 +207,12 @@ class Language(unittest.TestCase):
             for node in top.body if isinstance(node, ast.FunctionDef)
         }
         for path, text, tree in trees():
+            # A function may be passed in and called by the name of its parameter.
+            passed = {argument.arg for function in functions_of(tree) for argument in function.args.args}
             for node in ast.walk(tree):
                 if isinstance(node, ast.Call):
                     if isinstance(node.func, ast.Name):
-                        self.assertIn(node.func.id, own | LET_BUILTINS | LET_MATH, (path, node.lineno))
+                        self.assertTrue(node.func.id in own | LET_BUILTINS | LET_MATH | passed, (path, node.lineno))
                     else:
                         self.assertIn(node.func.attr, methods | LET_METHODS, (path, node.lineno))
 
@@ -165,7 +220,8 @@ class Language(unittest.TestCase):
         for path, text, tree in trees():
             for node in ast.walk(tree):
                 if isinstance(node, ast.ExceptHandler):
-                    self.assertIn(node.type.id, imported_names(tree), path)
+                    for kind in getattr(node.type, "elts", [node.type]):
+                        self.assertIn(kind.id, imported_names(tree), path)
                 if isinstance(node, ast.Raise):
                     self.assertIsInstance(node.exc, ast.Call, path)
                     self.assertEqual(node.exc.keywords, [])
@@ -179,6 +235,33 @@ class Language(unittest.TestCase):
                     ast.literal_eval(ast.unparse(node.value)) if "**" not in ast.unparse(node.value) else None
                 else:
                     self.assertIsInstance(node, (ast.ImportFrom, ast.FunctionDef, ast.ClassDef))
+
+    def test_what_a_loop_walks_is_not_changed_in_it(self):
+        for path, text, tree in trees():
+            for function in functions_of(tree):
+                self.assertEqual(self.loops_that_change(function), [], path)
+
+    def loops_that_change(self, function):
+        lots = names_alike(function)
+        found = []
+        for node in ast.walk(function):
+            if isinstance(node, ast.For):
+                walked = [alike for name in walked_names(node.iter) for alike in lots.get(name, {name})]
+                if [name for name in changed_names(node.body) if name in walked]:
+                    found.append(node.lineno)
+        return found
+
+    def test_loops_that_change_are_found(self):
+        bodies = [
+            "for x in xs:\n        xs.append(x)", "for k, x in enumerate(xs):\n        xs[k] = 1",
+            "ys = xs\n    for x in xs:\n        ys.pop()", "for x in d.items():\n        d[x] = 1",
+            "while xs:\n        ys = []\n        for x in xs:\n            ys.append(x)\n        xs = ys",
+            "for x in (xs or ys):\n        ys.append(x)", "for x in xs:\n        del xs[0]",
+        ]
+        for body in bodies:
+            self.assertTrue(self.loops_that_change(ast.parse(f"def f(xs, ys, d):\n    {body}\n")), body)
+        for body in ("for x in xs:\n        ys.append(x)", "for x in list(xs):\n        xs.append(x)"):
+            self.assertEqual(self.loops_that_change(ast.parse(f"def f(xs, ys):\n    {body}\n")), [])
 
     def test_no_star_in_an_index(self):
         for path, text, tree in trees():
