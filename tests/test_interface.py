@@ -137,37 +137,74 @@ INTERFACE = {
         "ways_through(box, place, slope)", "ribbons_through(box, place, slope)",
         "shortest_through(box, place, steep)", "Through(ribbon, moments)",
     ],
+    "goals": ["check_goal(goal)"],
+    "belts": [
+        "check_base(base)", "check_height(height)", "check_spot(base, spot)", "check_gait(gait)",
+        "check_mark(base, mark)", "check_day(base, slope, day)", "rim_length(base)", "spot_place(base, spot)",
+        "place_spot(base, place)", "belt_shift(base, slope, height, gait)", "chord_from(base, slope, cap, mark)",
+        "days_of(base, slope)", "day_of(base, slope, height)", "first_height(base, slope, day)",
+        "Chord(cap, start, finish, length)", "CapCorner(corner, length)",
+    ],
+    "rings": [
+        "form_length(slope, form, height)", "ring_of(base, slope, day, mark)",
+        "Ring(tops, bottoms, rest, by_p, by_q)", "RingEnds(corner, rest, by_p, by_q)",
+    ],
+    "forms": [
+        "way_forms(base, slope, day)", "lane_forms(base, slope, day)", "lane_of_mark(base, slope, day, mark)",
+        "top_shows(base, slope, day)", "WayForm(start, face, finish, last, rest, by_p, by_q)",
+        "LaneForm(breadth, rest, by_p, by_q, selfs, slices)", "Stretch(gait, low, high, to_gait, to_low, to_high)",
+    ],
+    "calendars": [
+        "make_calendar(base, slope)", "least_period(calendar)", "lanes_at(base, slope, height)",
+        "selfs_at(base, slope, height)", "Calendar(base, slope, size, rows)",
+    ],
+    "heights": [
+        "height_fits(base, slope, height, goal)", "heights_with(base, slope, goal)", "Heights(size, rows)",
+    ],
+    "stripes": [
+        "check_chord(base, slope, chord)", "stripes_at(base, slope, height, chord)", "stripes_of(ribbon)",
+        "Stripes(base, slope, chords)",
+    ],
+    "fitting": [
+        "heights_that_fit(stripes)", "heights_that_have(stripes)", "misfit_at(stripes, height)", "NoHeight(index)",
+        "Misfit(what, chord)",
+    ],
+    "surefacts": [
+        "fact_at(stripes, fact, height)", "sure_fact(stripes, fact, low=1, high=None)", "Sure(height)",
+        "Never(height)", "Both(yes, no)",
+    ],
+    "telling": ["telling_lots(stripes)", "telling_fault(stripes, told)", "Telling(days, lots)"],
+    "parting": [
+        "parting_chord(base, slope, one, other)", "parting_fault(base, slope, one, other, told)",
+        "alike_days(base, slope)", "Parting(chord, first, second)",
+    ],
+    "boxgoals": [
+        "meets_at_box(box, slope, goal)", "check_goals(goals)", "first_unmet(box, slope, goals)",
+        "slopes_with(box, goal, steep)", "sides_with(box, slope, axis, most, goal)",
+    ],
+    "edits": ["check_edits(edits)", "winding_after(winding, edits)", "Winding(box, slope)"],
+    "mends": [
+        "find_mends(winding, pool, goals)", "find_spoilers(winding, pool, goals)", "sure_goals(winding, pool, goals)",
+        "Mends(least, losses)", "Unmet(what, index)", "Spoiler(choice, added, unmet)",
+    ],
+    "bench": ["Bench(winding)"],
 }
+# The methods of each class, besides those that all classes but the bench have.
 METHODS = {
-    ("boxes", "Box"): ["__init__", "__eq__", "skin_area", "corner_places"],
-    ("steps", "Pass"): ["__init__", "__eq__"],
-    ("rays", "MeetsCorner"): ["__init__", "__eq__"],
-    ("ribbons", "Ribbon"): ["__init__", "__eq__", "__len__", "__iter__"],
-    ("unfolding", "Unfolded"): ["__init__", "__eq__", "turn", "shift"],
-    ("taut", "Lane"): ["__init__", "__eq__"],
-    ("taut", "NotTaut"): ["__init__", "__eq__"],
-    ("taut", "Slide"): ["__init__", "__eq__"],
-    ("cornerways", "CornerWay"): ["__init__", "__eq__", "key", "back_key", "squared"],
-    ("lanes", "Strip"): ["__init__", "__eq__"],
-    ("lanes", "Split"): ["__init__", "__eq__"],
-    ("lanes", "Lanes"): ["__init__", "__eq__", "__len__", "__iter__", "number_of"],
-    ("wherelane", "Where"): ["__init__", "__eq__"],
-    ("wherelane", "OnBorder"): ["__init__", "__eq__"],
-    ("borders", "Border"): ["__init__", "__eq__"],
-    ("webs", "Link"): ["__init__", "__eq__"],
-    ("crossings", "Crossing"): ["__init__", "__eq__"],
-    ("shades", "Loop"): ["__init__", "__eq__"],
-    ("pieces", "Piece"): ["__init__", "__eq__"],
-    ("arcs", "Arc"): ["__init__", "__eq__"],
-    ("tables", "CrossTable"): ["__init__", "__eq__"],
-    ("farplaces", "FarPlace"): ["__init__", "__eq__"],
-    ("meetings", "Walk"): ["__init__", "__eq__"],
-    ("meetings", "Meeting"): ["__init__", "__eq__"],
-    ("levels", "Crossed"): ["__init__", "__eq__"],
-    ("shortribbons", "Short"): ["__init__", "__eq__"],
-    ("shortribbons", "Broadest"): ["__init__", "__eq__"],
-    ("through", "Through"): ["__init__", "__eq__"],
+    "Box": ["skin_area", "corner_places"],
+    "Ribbon": ["__len__", "__iter__"],
+    "Unfolded": ["turn", "shift"],
+    "CornerWay": ["key", "back_key", "squared"],
+    "Lanes": ["__len__", "__iter__", "number_of"],
+    "Heights": ["holds", "many_between"],
+    "Stripes": ["__len__", "__iter__", "period"],
+    "Telling": ["needed"],
+    "Mends": ["needed"],
+    "Bench": ["__len__", "__iter__", "wind", "unwind", "unmet_now", "trial", "tried"],
 }
+CONSTANTS = {"ratios": {"ZERO": (0, 1), "ONE": (1, 1), "HALF": (1, 2)}}
+# Classes whose attributes are not just their arguments.
+NO_RESULTS = ["Box", "Lane", "Ribbon", "Walk", "Stripes", "Bench"]
 GENERATORS = ["ray_of", "rows_through", "ways_from"]
 
 
@@ -183,17 +220,33 @@ class Interface(unittest.TestCase):
                 self.assertEqual(inspect.isgeneratorfunction(thing), name in GENERATORS, name)
 
     def test_methods_stand_in_their_classes(self):
-        for (module_name, name), methods in METHODS.items():
-            thing = getattr(importlib.import_module("tautparcel." + module_name), name)
-            for method in methods:
+        classes = self.classes()
+        self.assertEqual(len(classes), 50)
+        for name, thing in classes.items():
+            for method in ["__init__"] + ["__eq__"] * (name != "Bench") + METHODS.get(name, []):
                 self.assertIn(method, vars(thing), (name, method))
+        self.assertNotIn("__eq__", vars(classes["Bench"]))
+
+    def classes(self):
+        found = {}
+        for module_name, lines in INTERFACE.items():
+            for line in lines:
+                name = line.partition("(")[0]
+                if name[0].isupper():
+                    found[name] = getattr(importlib.import_module("tautparcel." + module_name), name)
+        return found
+
+    def test_constants(self):
+        for module_name, told in CONSTANTS.items():
+            for name, value in told.items():
+                self.assertEqual(getattr(importlib.import_module("tautparcel." + module_name), name), value)
 
     def test_attributes_bear_the_names_of_the_arguments(self):
         for module_name, lines in INTERFACE.items():
             module = importlib.import_module("tautparcel." + module_name)
             for line in lines:
                 name, _, rest = line[:-1].partition("(")
-                if name[0].isupper() and name not in ("Box", "Lane", "Ribbon", "Walk"):
+                if name[0].isupper() and name not in NO_RESULTS:
                     words = rest.split(", ")
                     values = [object() for _ in words]
                     made = getattr(module, name)(*values)
