@@ -148,6 +148,15 @@ class Faults(unittest.TestCase):
                 return chord
         raise AssertionError
 
+    def test_a_corner_at_one_height_alone(self):
+        base, slope, chord = (1, 1), (3, 1), ((2, 3), (8, 3))
+        there = stripes_at(base, slope, 2, chord)
+        self.assertIsNone(stripes_at(base, slope, 1, chord))
+        for one, other in ((1, 2), (2, 1)):
+            for told in (Parting(chord, None, there), Parting(chord, there, None), Parting(chord, there, there)):
+                self.assertEqual(parting_fault(base, slope, one, other, told), "corner")
+        self.assertEqual(parting_fault(base, slope, 2, 14, Parting(chord, there, there)), "same")
+
     def test_the_same_at_both(self):
         for chord in drawn_chords(self.BASE, self.SLOPE):
             for one, other in ((1, 2), (1, 13), (4, 7)):
